@@ -1,0 +1,1 @@
+"""Stores that come alike over a bad line, by few numbers."""

@@ -1,0 +1,98 @@
+import importlib
+import inspect
+import unittest
+
+from meetstores.errors import Wrong
+
+INTERFACE = {
+    "octets": {
+        "write_count": "number", "write_text": "text", "write_value": "value", "read_count": "octets at",
+        "read_text": "octets at", "read_value": "octets at",
+    },
+    "guard": {"guarded": "octets", "mended": "block"},
+    "pieces": {"cut": "serial message", "piece_of": "block"},
+    "prime": {"value_at": "poly place", "by_roots": "roots", "common": "poly other", "roots": "poly"},
+    "notes": {
+        "name_of": "note", "parts_of": "name", "covers": "note other", "read": "store key",
+        "written": "store host serial key value", "merged": "store other", "differ": "store other",
+    },
+    "finds": {"told": "store index", "find": "size tells store"},
+}
+METHODS = {("pieces", "Gatherer"): {"__init__": "self", "take": "self block", "waiting": "self"}}
+
+
+class Interface(unittest.TestCase):
+    def test_functions(self):
+        for file, functions in INTERFACE.items():
+            module = importlib.import_module(f"meetstores.{file}")
+            for name, parameters in functions.items():
+                function = getattr(module, name)
+                self.assertEqual(function.__module__, module.__name__)
+                self.assertEqual(list(inspect.signature(function).parameters), parameters.split())
+
+    def test_methods(self):
+        for (file, name), methods in METHODS.items():
+            module = importlib.import_module(f"meetstores.{file}")
+            self.assertEqual(getattr(module, name).__module__, module.__name__)
+            for method, parameters in methods.items():
+                function = vars(getattr(module, name))[method]
+                self.assertEqual(list(inspect.signature(function).parameters), parameters.split())
+
+
+class Examples(unittest.TestCase):
+    def test_octets(self):
+        from meetstores.octets import read_count, read_value, write_count, write_text, write_value
+        self.assertEqual(
+            [write_count(300), read_count((172, 2, 9), 0), write_text("ab 1"), write_value(-3),
+             read_value((2, 1, 0), 0), write_value(None)],
+            [(172, 2), (300, 2), (4, 0, 1, 62, 53), (1, 5), ("a", 3), (0,)])
+        with self.assertRaises(Wrong) as caught:
+            read_count((128, 0), 0)
+        self.assertEqual(caught.exception.place, 1)
+
+    def test_guard(self):
+        from meetstores.guard import guarded, mended
+        block = guarded((1, 2, 3))
+        self.assertEqual(
+            [len(block), mended(block), mended((9, 2) + block[2:]), mended((9, 2, 3, 77) + block[4:]),
+             mended((9, 9, 9) + block[3:])],
+            [11, (1, 2, 3), (1, 2, 3), (1, 2, 3), None])
+
+    def test_pieces(self):
+        from meetstores.pieces import Gatherer, cut, piece_of
+        blocks, gatherer = cut(7, (5,) * 50), Gatherer()
+        self.assertEqual(
+            [len(blocks), piece_of(blocks[1]), gatherer.take(blocks[1]), gatherer.waiting(), gatherer.take(blocks[1]),
+             gatherer.take(blocks[0]) == (7, (5,) * 50), gatherer.waiting()],
+            [2, (7, 1, 2, (5, 5, 5, 5, 5, 5, 5, 5, 5, 5)), None, ((7, 2, (1,)),), None, True, ()])
+
+    def test_prime(self):
+        from meetstores.prime import by_roots, common, roots, value_at
+        self.assertEqual(
+            [by_roots((1, 2)), roots(by_roots((5, 3))), roots((1, 0, 1)),
+             common(by_roots((1, 2)), by_roots((2, 3))), value_at((1, 1), 4)],
+            [(2, 2305843009213693948, 1), (3, 5), None, (2305843009213693949, 1), 5])
+
+    def test_notes(self):
+        from meetstores.notes import covers, differ, merged, name_of, read, written
+        one = written((), 0, 1, "fruit", "apple")
+        two = written((), 1, 1, "fruit", "pear")
+        both = merged(one, two)
+        three = written(both, 0, 2, "fruit", "fig")
+        self.assertEqual(
+            [read(both, "fruit"), three[0][3], covers(three[0], two[0]), merged(three, two) == three,
+             differ(one, three), name_of(two[0])],
+            [("apple", "pear"), (1, 1, 0, 0, 0, 0, 0, 0), True, True, (1, 2), 134217729])
+
+    def test_finds(self):
+        from meetstores.finds import find, told
+        from meetstores.notes import written
+        one = written(written((), 0, 1, "a", 1), 0, 2, "b", 2)
+        two = written((), 1, 5, "c", 3)
+        tells = tuple([(index, told(one, index)) for index in (4, 9, 700)])
+        self.assertEqual([find(2, tells, two), find(2, tells[:2], two), find(2, tells, one)],
+                         [((1, 2), (134217733,)), None, ((), ())])
+
+
+if __name__ == "__main__":
+    unittest.main()
