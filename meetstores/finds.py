@@ -16,16 +16,26 @@ def is_index(value):
     return is_between(value, 0, MOST_INDEX)
 
 
+def is_number_told(value):
+    """Whether a value is a number that a store may tell."""
+    return is_between(value, 1, PRIME - 1)
+
+
 def is_tell(value):
     """Whether a value is a pair of an index and a number that a store may tell there."""
     if type(value) is not tuple or len(value) != 2:
         return False
-    return is_index(value[0]) and is_between(value[1], 1, PRIME - 1)
+    return is_index(value[0]) and is_number_told(value[1])
+
+
+def is_size(value):
+    """Whether a value is the size of a store."""
+    return is_between(value, 0, MOST_SIZE)
 
 
 def check_size(size):
     """Raise the error of a value that is not the size of a store."""
-    if not is_between(size, 0, MOST_SIZE):
+    if not is_size(size):
         raise BadSize("not the size of a store")
 
 
@@ -106,20 +116,16 @@ def names_at(poly):
     return names
 
 
-def quotients(tells, names):
-    """What the number of each tell is, divided by what names tell there."""
-    return [number * inverse(told_of(names, index)) % PRIME for index, number in tells]
+def is_beyond(size, tells, names):
+    """Whether some names are so many more or fewer than a size that no difference of as many as the tells is left."""
+    return abs(size - len(names)) > len(tells)
 
 
-def difference(size, tells, names):
-    """The pair (more, less) that makes names of a size, which tell the numbers of tells, out of some names: those
-    to be put to them and those to be taken away; None if there is none. Size, tells and names surely are good.
-    """
+def difference_by(size, tells, names, own):
+    """What difference returns for names that are not beyond, own being what they tell at the points of the tells."""
     surplus = size - len(names)
-    if abs(surplus) > len(tells):
-        return None
     points = [FIRST_POINT + tell[0] for tell in tells]
-    ratios = quotients(tells, names)
+    ratios = [tell[1] * inverse(number) % PRIME for tell, number in zip(tells, own)]
     if surplus < 0:
         less_poly, more_poly = fraction(points, [inverse(ratio) for ratio in ratios], -surplus)
     else:
@@ -130,10 +136,20 @@ def difference(size, tells, names):
     less = names_at(less_poly) if more is not None else None
     if less is None:
         return None
-    held = {name: True for name in names}
+    # Mostly nothing differs, and then all the names need not be looked at.
+    held = {name: True for name in names} if len(more) + len(less) > 0 else {}
     if any([name in held for name in more]) or not all([name in held for name in less]):
         return None
     return more, less
+
+
+def difference(size, tells, names):
+    """The pair (more, less) that makes names of a size, which tell the numbers of tells, out of some names: those
+    to be put to them and those to be taken away; None if there is none. Size, tells and names surely are good.
+    """
+    if is_beyond(size, tells, names):
+        return None
+    return difference_by(size, tells, names, [told_of(names, tell[0]) for tell in tells])
 
 
 def told(store, index):

@@ -181,17 +181,18 @@ def changes_of(fault, length):
     return two_changes(sums, length, spread)
 
 
-def guarded(octets):
-    """The octets with eight check octets behind them."""
-    if not is_octets(octets, 1, MOST_GUARDED):
-        raise BadOctets("not 1 to 100 octets")
+def is_block(value):
+    """Whether a value is octets that may be a guarded block."""
+    return is_octets(value, 1 + MANY_CHECKS, MOST_GUARDED + MANY_CHECKS)
+
+
+def block_of(octets):
+    """The guarded block of octets that surely may have one."""
     return octets + eight_octets(check_number(octets))
 
 
-def mended(block):
-    """The octets of the guarded block from which a block differs at no more than two places, or None."""
-    if not is_octets(block, 1 + MANY_CHECKS, MOST_GUARDED + MANY_CHECKS):
-        raise BadOctets("not a block of 9 to 108 octets")
+def octets_of(block):
+    """What mended returns for what surely is a block."""
     fault = check_number(block[:-MANY_CHECKS]) ^ as_number(block[-MANY_CHECKS:])
     if fault == 0:
         return block[:-MANY_CHECKS]
@@ -202,3 +203,17 @@ def mended(block):
     for power, change in changes:
         good[-1 - power] ^= change
     return tuple(good[:-MANY_CHECKS])
+
+
+def guarded(octets):
+    """The octets with eight check octets behind them."""
+    if not is_octets(octets, 1, MOST_GUARDED):
+        raise BadOctets("not 1 to 100 octets")
+    return block_of(octets)
+
+
+def mended(block):
+    """The octets of the guarded block from which a block differs at no more than two places, or None."""
+    if not is_block(block):
+        raise BadOctets("not a block of 9 to 108 octets")
+    return octets_of(block)

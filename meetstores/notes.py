@@ -158,6 +158,23 @@ def together(notes):
     return tuple(store)
 
 
+def store_and(store, notes):
+    """What surely is a store, with notes of any order taken in as in merged."""
+    by_key = {}
+    for note in notes:
+        by_key.setdefault(note[0], []).append(note)
+    parts = []
+    at = 0
+    # Only notes of the same key cover each other, so all others stay as they are.
+    for key in sorted(by_key):
+        start, end = key_range(store, key)
+        parts.append(store[at:start])
+        parts.append(together(store[start:end] + tuple(by_key[key])))
+        at = end
+    parts.append(store[at:])
+    return tuple([note for part in parts for note in part])
+
+
 def name_of(note):
     """A note's name."""
     if not is_note(note):

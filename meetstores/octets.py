@@ -20,10 +20,9 @@ def is_octets(value, least, most):
         return False
     if most is not None and len(value) > most:
         return False
-    for octet in value:
-        if type(octet) is not int or not 0 <= octet <= 255:
-            return False
-    return True
+    if not all([type(octet) is int for octet in value]):
+        return False
+    return len(value) == 0 or (min(value) >= 0 and max(value) <= 255)
 
 
 def is_signs(value, least, most):

@@ -1,7 +1,7 @@
 """Messages cut into guarded pieces, and gathered again (points 5 and 6)."""
 
 from meetstores.errors import BadCount, BadOctets, Short, Wrong
-from meetstores.guard import MANY_CHECKS, MOST_GUARDED, guarded, mended
+from meetstores.guard import block_of, is_block, octets_of
 from meetstores.octets import count_from, count_octets, is_between, is_octets
 
 MOST_SERIAL = 1099511627775
@@ -20,7 +20,7 @@ def cut(serial, message):
     head = count_octets(serial)
     total = max(1, (len(message) + PIECE - 1) // PIECE)
     return tuple([
-        guarded(head + (index, total) + message[PIECE * index:PIECE * (index + 1)]) for index in range(total)
+        block_of(head + (index, total) + message[PIECE * index:PIECE * (index + 1)]) for index in range(total)
     ])
 
 
@@ -50,9 +50,9 @@ def piece_in(octets):
 
 def piece_of(block):
     """The piece (serial, index, total, octets) whose block a value is, once mended, or None."""
-    if not is_octets(block, 1 + MANY_CHECKS, MOST_GUARDED + MANY_CHECKS):
+    if not is_block(block):
         return None
-    octets = mended(block)
+    octets = octets_of(block)
     if octets is None:
         return None
     return piece_in(octets)

@@ -103,3 +103,13 @@ def number_told(names, index):
 def tells_of(names, indexes):
     """The tells of names at the points of some indexes."""
     return tuple((index, number_told(names, index)) for index in sorted(indexes))
+
+
+def some_value(source):
+    """A value at random."""
+    kind = source.randrange(4)
+    if kind == 0:
+        return None
+    if kind == 1:
+        return source.randrange(-2 ** source.randrange(41), 2 ** source.randrange(41) + 1)
+    return "".join(source.choice("ab Z9 ?!") for _ in range(source.choice((0, 1, 5, 30, 200))))

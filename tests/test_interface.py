@@ -17,8 +17,30 @@ INTERFACE = {
         "written": "store host serial key value", "merged": "store other", "differ": "store other",
     },
     "finds": {"told": "store index", "find": "size tells store"},
+    "lots": {"lot_names": "store lot", "halves": "lot", "find_lot": "size tells store lot"},
+    "messages": {"write_message": "message", "read_message": "octets"},
+    "scripts": {"write_script": "steps", "read_script": "text", "run": "steps"},
+    "keeping": {"keep": "state", "restore": "blocks", "risen": "state"},
+    "kinds": {
+        "total": "store thing", "adding": "store host thing amount", "putting": "thing item", "taking": "thing item",
+        "items": "store thing",
+    },
+    "rolls": {"roll_out": "host thing text", "rolls": "store thing", "sweep_up": "host thing"},
 }
-METHODS = {("pieces", "Gatherer"): {"__init__": "self", "take": "self block", "waiting": "self"}}
+METHODS = {
+    ("pieces", "Gatherer"): {"__init__": "self", "take": "self block", "waiting": "self"},
+    ("hosts", "Host"): {
+        "__init__": "self number peers", "store": "self", "state": "self", "read": "self key", "write": "self key value",
+        "fall": "self", "tick": "self", "take": "self peer block",
+    },
+    ("worlds", "World"): {
+        "__init__": "self hosts links", "host": "self number", "write": "self number key value",
+        "read": "self number key", "store": "self number", "state": "self number", "fall": "self number",
+        "tick": "self number", "flight": "self", "are_alike": "self", "cut": "self one two", "heal": "self one two",
+        "lose": "self place", "double": "self place", "spoil": "self place at octet", "deliver": "self place",
+        "deliver_all": "self", "settle": "self rounds",
+    },
+}
 
 
 class Interface(unittest.TestCase):
@@ -92,6 +114,70 @@ class Examples(unittest.TestCase):
         tells = tuple([(index, told(one, index)) for index in (4, 9, 700)])
         self.assertEqual([find(2, tells, two), find(2, tells[:2], two), find(2, tells, one)],
                          [((1, 2), (134217733,)), None, ((), ())])
+
+    def test_lots(self):
+        from meetstores.lots import find_lot, halves, lot_names
+        from meetstores.notes import written
+        store = written(written(written((), 0, 1, "a", 1), 0, 2, "b", 2), 0, 3, "c", 3)
+        self.assertEqual(
+            [lot_names(store, (1, 1)), lot_names(store, (0, 0)), halves((1, 1)),
+             find_lot(1, ((0, 1073741821),), store, (1, 1))],
+            [(1, 3), (1, 2, 3), ((2, 1), (2, 3)), ((), (1,))])
+
+    def test_messages(self):
+        from meetstores.messages import read_message, write_message
+        self.assertEqual(
+            [write_message(("number", 3, (0, 0), 2, 0, 300)), read_message((2, 3, 1, 5)), write_message(("all",)),
+             write_message(("part", 3, (2, 1)))],
+            [(1, 3, 0, 0, 2, 0, 172, 2), ("ask", 3, (5,)), (3,), (5, 3, 2, 1)])
+
+    def test_hosts(self):
+        from meetstores.hosts import Host
+        one, two = Host(0, (1,)), Host(1, (0,))
+        one.write("fruit", "apple")
+        self.assertEqual([one.state()[:5], len(one.tick()), two.tick()[0][0], one.read("fruit")],
+                         [(0, (1,), 1, 1, 1), 1, 0, ("apple",)])
+
+    def test_worlds(self):
+        from meetstores.worlds import World
+        world = World(2, ((0, 1),))
+        world.write(0, "fruit", "apple")
+        world.write(1, "fruit", "pear")
+        self.assertEqual([world.are_alike(), world.settle(9), world.read(1, "fruit"), world.are_alike()],
+                         [False, 2, ("apple", "pear"), True])
+
+    def test_scripts(self):
+        from meetstores.scripts import read_script, run, write_script
+        steps = read_script("world 2 0-1\nwrite 0 'fruit' 'red apple'\nsettle 9\nshow 1 'fruit'\nalike")
+        self.assertEqual([steps[1], run(steps)[1], write_script(steps[:1])],
+                         [("write", 0, "fruit", "red apple"), ("1", "'red apple'", "yes"), "world 2 0-1"])
+
+    def test_keeping(self):
+        from meetstores.hosts import Host
+        from meetstores.keeping import keep, restore, risen
+        host = Host(2, (0, 1))
+        host.write("fruit", None)
+        self.assertEqual(
+            [restore(keep(host.state())) == host.state(), len(keep(host.state())), risen(host.state()).state()[2:5]],
+            [True, 1, (2, 1, 1)])
+
+    def test_kinds(self):
+        from meetstores.kinds import adding, items, putting, total
+        from meetstores.notes import written
+        store = written((), 3, 1, "visits+3", 5)
+        self.assertEqual(
+            [total(store, "visits"), adding(store, 3, "visits", -2), putting("bag", "pen"), items(store, "bag")],
+            [5, ("visits+3", 3), ("bag/pen", 1), ()])
+
+    def test_rolls(self):
+        from meetstores.hosts import Host
+        from meetstores.rolls import roll_out, rolls, sweep_up
+        host = Host(0, ())
+        roll_out(host, "book", "a" * 250)
+        roll_out(host, "book", "second")
+        self.assertEqual(
+            [rolls(host.store(), "book"), sweep_up(host, "book"), rolls(host.store(), "book"), host.read("book")],
+            [("second",), 2, ("second",), ("0_5_1",)])
 
 
 if __name__ == "__main__":
