@@ -1,8 +1,8 @@
 """Hosts: each keeps a store and talks with its peers until they are alike (points 14 to 16)."""
 
-from meetstores.errors import BadHost, BadHosts, BadKey, BadSerial, BadValue
+from meetstores.errors import BadHost, BadHosts, BadSerial, BadValue
 from meetstores.messages import is_ascending, message_in, messages_of_notes
-from meetstores.notes import MOST_SERIAL, is_host, is_key, last_serial, store_and, store_with, values_in
+from meetstores.notes import MOST_SERIAL, check_key, is_host, last_serial, store_and, store_with, values_in
 from meetstores.octets import is_value
 from meetstores.pieces import cut
 from meetstores.talks import Talk, everything
@@ -31,9 +31,9 @@ class Host:
         self._peers = peers
         self._life = 1
         self._serial = 0
-        # The greatest serial of this host that has come in notes: there is one beyond the host's own last one only
-        # if it rose with a state that was not its last one.
-        self._come = 0
+        # The store has no serial of this host that is greater than both its last one and this: so a write need not
+        # look at the whole store, unless a greater one has come.
+        self._bound = 0
         self._telling = Telling(0, ())
         self._begin()
 
@@ -59,17 +59,17 @@ class Host:
 
     def read(self, key):
         """The tuple of the values of a key."""
-        if not is_key(key):
-            raise BadKey("not a key")
+        check_key(key)
         return values_in(self._telling.notes, key)
 
     def write(self, key, value):
         """Write a value of a key."""
-        if not is_key(key):
-            raise BadKey("not a key")
+        check_key(key)
         if not is_value(value):
             raise BadValue("not a value")
-        if self._serial == MOST_SERIAL or self._serial < self._come:
+        if self._serial < self._bound:
+            self._bound = last_serial(self._telling.notes, self._number)
+        if self._serial == MOST_SERIAL or self._serial < self._bound:
             raise BadSerial("no serial is left for the write")
         self._serial += 1
         self._change(store_with(self._telling.notes, self._number, self._serial, key, value))
@@ -123,7 +123,7 @@ class Host:
 
     def _take_in(self, notes):
         """Take notes into the store."""
-        self._come = max(self._come, last_serial(notes, self._number))
+        self._bound = max(self._bound, last_serial(notes, self._number))
         store = store_and(self._telling.notes, notes)
         if store != self._telling.notes:
             self._change(store)
@@ -145,3 +145,30 @@ class Host:
                 frames.append((peer, block))
             self._sent += 1
         return frames
+
+
+def check_host(host):
+    """Raise the error of a value that is not a Host."""
+    if not isinstance(host, Host):
+        raise BadHost("not a host")
+
+
+def number_of(host):
+    """The number of a host."""
+    return host.state()[0]
+
+
+def serial_of(host):
+    """The serial of a host's last write."""
+    return host.state()[3]
+
+
+def edition_of(host):
+    """The edition of a host's store."""
+    return host.state()[4]
+
+
+def check_serials(host, many):
+    """Raise an error if a host has no serials left for so many writes."""
+    if serial_of(host) + many > MOST_SERIAL:
+        raise BadSerial("not as many serials are left")

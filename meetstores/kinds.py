@@ -39,6 +39,26 @@ def part_in(store, thing, host):
     return sum([value for value in values_in(store, tally_key(thing, host)) if type(value) is int])
 
 
+def total_in(store, thing):
+    """What the tally of a thing comes to in what surely is a store."""
+    return sum([part_in(store, thing, host) for host in range(MANY_HOSTS)])
+
+
+def adding_in(store, host, thing, amount):
+    """The pair (key, value) that a host with what surely is a store writes to add what surely is an amount."""
+    part = part_in(store, thing, host) + amount
+    if not is_amount(part):
+        raise BadAmount("the part would be too great or too small")
+    return tally_key(thing, host), part
+
+
+def items_in(store, thing):
+    """The ascending list of the items in the bag of a thing, in what surely is a store."""
+    start = thing + "/"
+    held = {note[0]: True for note in store if note[0].startswith(start) and note[4] is not None}
+    return sorted([key[len(start):] for key in held])
+
+
 def item_key(thing, item):
     """The key of an item in the bag of a thing."""
     if not is_thing(thing):
@@ -52,7 +72,7 @@ def total(store, thing):
     """The sum of the parts of all hosts of the tally of a thing."""
     check_store(store)
     check_thing(thing)
-    return sum([part_in(store, thing, host) for host in range(MANY_HOSTS)])
+    return total_in(store, thing)
 
 
 def adding(store, host, thing, amount):
@@ -63,10 +83,7 @@ def adding(store, host, thing, amount):
     check_thing(thing)
     if not is_amount(amount):
         raise BadAmount("not an amount")
-    part = part_in(store, thing, host) + amount
-    if not is_amount(part):
-        raise BadAmount("the part would be too great or too small")
-    return tally_key(thing, host), part
+    return adding_in(store, host, thing, amount)
 
 
 def putting(thing, item):
@@ -83,6 +100,4 @@ def items(store, thing):
     """The ascending tuple of the items in the bag of a thing."""
     check_store(store)
     check_thing(thing)
-    start = thing + "/"
-    held = {note[0]: True for note in store if note[0].startswith(start) and note[4] is not None}
-    return tuple(sorted([key[len(start):] for key in held]))
+    return tuple(items_in(store, thing))

@@ -63,6 +63,12 @@ def fits_behind(note, beside):
     return not any([is_covering(note, other) or is_covering(other, note) for other in beside])
 
 
+def check_key(key):
+    """Raise the error of a value that is not a key."""
+    if not is_key(key):
+        raise BadKey("not a key")
+
+
 def check_store(store):
     """Raise the error of a value that is not a store."""
     if type(store) is not tuple:
@@ -107,6 +113,20 @@ def values_in(store, key):
     return tuple([note[4] for note in store[start:end]])
 
 
+def values_by_key(store):
+    """For each key of what surely is a store, ascending, the tuple of its values."""
+    values = {}
+    for note in store:
+        values.setdefault(note[0], []).append(note[4])
+    return {key: tuple(values[key]) for key in values}
+
+
+def doubtful_in(store):
+    """The ascending list of the keys of which what surely is a store has several notes."""
+    values = values_by_key(store)
+    return [key for key in values if len(values[key]) > 1]
+
+
 def last_serial(store, host):
     """The greatest serial that what surely is a store has of a host, as a note's own or in a past, or 0."""
     last = 0
@@ -128,11 +148,16 @@ def past_of(notes):
     return tuple(past)
 
 
+def seen_in(store, key):
+    """For each host the greatest serial that what surely is a store has of it for a key, also in pasts, or 0."""
+    start, end = key_range(store, key)
+    return past_of(store[start:end])
+
+
 def store_with(store, host, serial, key, value):
     """What surely is a store, with a write whose parts surely are good."""
     start, end = key_range(store, key)
-    note = (key, host, serial, past_of(store[start:end]), value)
-    return store[:start] + (note,) + store[end:]
+    return store[:start] + ((key, host, serial, seen_in(store, key), value),) + store[end:]
 
 
 def newest(notes):
@@ -199,8 +224,7 @@ def covers(note, other):
 def read(store, key):
     """The tuple of the values of a key's notes in a store, by their hosts."""
     check_store(store)
-    if not is_key(key):
-        raise BadKey("not a key")
+    check_key(key)
     return values_in(store, key)
 
 
@@ -211,8 +235,7 @@ def written(store, host, serial, key, value):
         raise BadHost("not a host")
     if not is_serial(serial) or serial <= last_serial(store, host):
         raise BadSerial("not a serial behind all that the store has of the host")
-    if not is_key(key):
-        raise BadKey("not a key")
+    check_key(key)
     if not is_value(value):
         raise BadValue("not a value")
     return store_with(store, host, serial, key, value)

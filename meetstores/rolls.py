@@ -1,37 +1,15 @@
 """Rolls: long texts kept as sheets under keys of their own (point 25)."""
 
-from meetstores.errors import BadHost, BadRoll, BadSerial
-from meetstores.hosts import Host
+from meetstores.errors import BadRoll
+from meetstores.hosts import check_host, check_serials, number_of, serial_of
 from meetstores.kinds import check_thing
 from meetstores.lines import is_figures
-from meetstores.notes import MOST_SERIAL, check_store, values_in
+from meetstores.notes import check_store, values_in
 from meetstores.octets import is_signs
 
 MOST_ROLL = 20000
 SHEET = 200
 MOST_FIGURES = 9
-
-
-def check_host(host):
-    """Raise the error of a value that is not a Host."""
-    if not isinstance(host, Host):
-        raise BadHost("not a host")
-
-
-def serial_of(host):
-    """The serial of a host's last write."""
-    return host.state()[3]
-
-
-def number_of(host):
-    """The number of a host."""
-    return host.state()[0]
-
-
-def check_serials(host, many):
-    """Raise an error if a host has no serials left for so many writes."""
-    if serial_of(host) + many > MOST_SERIAL:
-        raise BadSerial("not as many serials are left")
 
 
 def are_figures(words):

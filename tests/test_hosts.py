@@ -116,6 +116,75 @@ class Alone(unittest.TestCase):
             self.assertRaises(BadHost, host.take, peer, ())
 
 
+class OwnSerials(unittest.TestCase):
+    """Only what the store has of a host stands against its next serial, not what has ever come."""
+
+    def test_a_greater_serial_in_the_store(self):
+        for came in (note("k", 0, 3, value="x"), note("k", 1, 9, {0: 3})):
+            host = host_with(0, (1,), (came,))
+            state = host.state()
+            for key, value, error in (("z", 1, BadSerial), ("k", 1, BadSerial), ("", 1, BadKey), ("z", (), BadValue)):
+                self.assertRaises(error, host.write, key, value)
+            self.assertEqual(host.state(), state)
+
+    def test_as_great_a_serial_and_one_less(self):
+        for own in range(5):
+            for came in range(1, 5):
+                for notes in ((note("k", 0, came),), (note("k", 1, 9, {0: came}),)):
+                    host = risen((0, (1,), 1, own, 0, ()))
+                    give(host, 1, ("notes", notes))
+                    if came > own:
+                        self.assertRaises(BadSerial, host.write, "z", 1)
+                    else:
+                        host.write("z", 1)
+                        self.assertEqual(host.state()[3], own + 1)
+
+    def test_a_note_that_was_not_taken_in(self):
+        newer = note("k", 1, 6, {1: 5}, 1)
+        host = host_with(0, (1,), (newer,))
+        give(host, 1, ("notes", (note("k", 1, 5, {0: 100}, 2),)), 7)
+        self.assertEqual(host.state(), (0, (1,), 1, 0, 1, (newer,)))
+        host.write("z", 1)
+        self.assertEqual(host.state(), (0, (1,), 1, 1, 2, (newer, note("z", 0, 1, value=1))))
+
+    def test_a_note_that_is_no_more_in_the_store(self):
+        host = host_with(0, (1,), (note("k", 1, 5, {0: 100}, 2), note("m", 0, 50)))
+        self.assertRaises(BadSerial, host.write, "z", 1)
+        give(host, 1, ("notes", (note("k", 1, 6, {1: 5}, 1),)), 7)
+        self.assertRaises(BadSerial, host.write, "z", 1)
+        give(host, 1, ("notes", (note("m", 2, 1, {0: 50}),)), 8)
+        self.assertRaises(BadSerial, host.write, "z", 1)
+        give(host, 1, ("notes", (note("m", 2, 2),)), 9)
+        host.write("z", 1)
+        self.assertEqual(host.state()[3], 1)
+        # What comes again stands against it again.
+        give(host, 1, ("notes", (note("m", 0, 50),)), 10)
+        self.assertRaises(BadSerial, host.write, "z", 1)
+
+    def test_made_up_notes_of_all_kinds(self):
+        source, answers = chance(63), Counter()
+        for seed in range(60):
+            host = Host(0, (1,))
+            for serial in range(40):
+                if source.random() < 0.5:
+                    number, own = source.randrange(3), source.randrange(1, 9)
+                    past = {number: source.randrange(own), 1 - min(number, 1): source.choice((0, 0, 4, 8))}
+                    give(host, 1, ("notes", (note(source.choice("abc"), number, own, past),)), serial)
+                    continue
+                before, key = host.state(), source.choice("abc")
+                try:
+                    expected = written(before[5], 0, before[3] + 1, key, serial)
+                except BadSerial:
+                    self.assertRaises(BadSerial, host.write, key, serial)
+                    self.assertEqual(host.state(), before)
+                    answers["refused"] += 1
+                else:
+                    host.write(key, serial)
+                    self.assertEqual(host.state(), before[:3] + (before[3] + 1, before[4] + 1, expected))
+                    answers["written"] += 1
+        self.assertGreater(min(answers["refused"], answers["written"]), 100)
+
+
 class Ticks(unittest.TestCase):
     def test_numbers(self):
         source = chance(60)

@@ -26,6 +26,9 @@ INTERFACE = {
         "items": "store thing",
     },
     "rolls": {"roll_out": "host thing text", "rolls": "store thing", "sweep_up": "host thing"},
+    "scans": {"page": "store after many"},
+    "deltas": {"delta": "store older", "with_deltas": "store deltas", "deltas_of": "stores"},
+    "choices": {"chosen": "store key manner", "doubtful": "store", "settle_all": "host manner"},
 }
 METHODS = {
     ("pieces", "Gatherer"): {"__init__": "self", "take": "self block", "waiting": "self"},
@@ -39,6 +42,19 @@ METHODS = {
         "tick": "self number", "flight": "self", "are_alike": "self", "cut": "self one two", "heal": "self one two",
         "lose": "self place", "double": "self place", "spoil": "self place at octet", "deliver": "self place",
         "deliver_all": "self", "settle": "self rounds",
+    },
+    ("desk", "Desk"): {"__init__": "self host", "ask": "self text"},
+    ("mirrors", "Log"): {"__init__": "self host", "mark": "self", "since": "self edition"},
+    ("mirrors", "Mirror"): {"__init__": "self", "take": "self answer", "table": "self"},
+    ("clients", "Client"): {"__init__": "self number", "order": "self text", "blocks": "self", "take": "self block"},
+    ("clients", "Counter"): {"__init__": "self desk", "take": "self client block", "state": "self", "fall": "self"},
+    ("trips", "Trip"): {
+        "__init__": "self", "known": "self key", "is_behind": "self host key", "read": "self host key",
+        "write": "self host key value", "hand_on": "self other",
+    },
+    ("indexes", "Index"): {
+        "__init__": "self", "follow": "self store", "keys_with": "self word", "keys_with_all": "self words",
+        "words": "self",
     },
 }
 
@@ -178,6 +194,81 @@ class Examples(unittest.TestCase):
         self.assertEqual(
             [rolls(host.store(), "book"), sweep_up(host, "book"), rolls(host.store(), "book"), host.read("book")],
             [("second",), 2, ("second",), ("0_5_1",)])
+
+    def test_desk(self):
+        from meetstores.desk import Desk
+        from meetstores.hosts import Host
+        desk = Desk(Host(0, ()))
+        self.assertEqual(
+            [desk.ask("set 'fruit' 'red apple'"), desk.ask("get 'fruit'"), desk.ask("add 'visits' #3"),
+             desk.ask("total 'visits'"), desk.ask("keys 'a' 'g'"), desk.ask("find 'apple'")],
+            ["done", "'red apple'", "done", "3", "'fruit'", "'fruit'"])
+
+    def test_scans(self):
+        from meetstores.notes import written
+        from meetstores.scans import page
+        store = written(written(written((), 0, 1, "a", 1), 0, 2, "b", 2), 0, 3, "c", 3)
+        self.assertEqual([page(store, None, 2), page(store, "b", 2)],
+                         [((("a", (1,)), ("b", (2,))), "b"), ((("c", (3,)),), None)])
+
+    def test_mirrors(self):
+        from meetstores.hosts import Host
+        from meetstores.mirrors import Log, Mirror
+        host, mirror = Host(0, ()), Mirror()
+        log = Log(host)
+        host.write("fruit", "fig")
+        mirror.take(log.since(mirror.edition))
+        self.assertEqual(
+            [mirror.table(), mirror.edition, log.since(1), log.since(0)],
+            [(("fruit", ("fig",)),), 1, ("changes", 1, ()), ("changes", 1, (("fruit", ("fig",)),))])
+
+    def test_clients(self):
+        from meetstores.clients import Client, Counter
+        from meetstores.desk import Desk
+        from meetstores.hosts import Host
+        client, counter = Client(5), Counter(Desk(Host(0, ())))
+        client.order("add 'visits' #2")
+        order = client.blocks()[0]
+        back = counter.take(5, order)
+        self.assertEqual([counter.take(5, order) == back, client.take(back[0]), client.blocks(), counter.state()],
+                         [True, "done", (), ((5, 1, "done"),)])
+
+    def test_deltas(self):
+        from meetstores.deltas import delta, with_deltas
+        from meetstores.notes import written
+        older = written((), 0, 1, "a", 1)
+        store = written(older, 0, 2, "b", 2)
+        self.assertEqual(
+            [len(delta(store, older)), delta(older, store), with_deltas(older, (delta(store, older),)) == store],
+            [1, (), True])
+
+    def test_trips(self):
+        from meetstores.hosts import Host
+        from meetstores.trips import Trip
+        one, other, trip = Host(0, ()), Host(1, ()), Trip()
+        trip.write(one, "fruit", "fig")
+        self.assertEqual(
+            [trip.read(one, "fruit"), trip.is_behind(other, "fruit"), trip.is_behind(other, "tree"),
+             trip.known("fruit")],
+            [("fig",), True, False, (1, 0, 0, 0, 0, 0, 0, 0)])
+
+    def test_indexes(self):
+        from meetstores.indexes import Index
+        from meetstores.notes import written
+        index = Index()
+        store = written(written((), 0, 1, "a", "red fig"), 0, 2, "b", "red, old")
+        self.assertEqual(
+            [index.follow(store), index.keys_with("red"), index.keys_with_all(("red", "fig")), index.words()],
+            [2, ("a", "b"), ("a",), ("fig", "old", "red")])
+
+    def test_choices(self):
+        from meetstores.choices import chosen, doubtful
+        from meetstores.notes import merged, written
+        store = merged(written((), 0, 1, "a", 5), written((), 1, 1, "a", "fig"))
+        self.assertEqual(
+            [doubtful(store), chosen(store, "a", "least"), chosen(store, "a", "last"), chosen(store, "a", "sum"),
+             chosen(store, "b", "most")],
+            [("a",), 5, "fig", 5, None])
 
 
 if __name__ == "__main__":
