@@ -119,6 +119,8 @@ def pair_ordered(host, word, parts):
     if word == "pick":
         return parts[0], picked(host.store(), parts[0], parts[1])
     if word == "add":
+        # Of the errors of write and of adding, those of write are named first.
+        host.check_next_serial()
         return adding_in(host.store(), number_of(host), parts[0], parts[1])
     if word == "put":
         return putting(parts[0], parts[1])

@@ -67,12 +67,16 @@ class Host:
         check_key(key)
         if not is_value(value):
             raise BadValue("not a value")
+        self.check_next_serial()
+        self._serial += 1
+        self._change(store_with(self._telling.notes, self._number, self._serial, key, value))
+
+    def check_next_serial(self):
+        """Raise an error if the serial of the next write would be none, or is not beyond all in the store."""
         if self._serial < self._bound:
             self._bound = last_serial(self._telling.notes, self._number)
         if self._serial == MOST_SERIAL or self._serial < self._bound:
             raise BadSerial("no serial is left for the write")
-        self._serial += 1
-        self._change(store_with(self._telling.notes, self._number, self._serial, key, value))
 
     def fall(self):
         """Fall, and rise again with nothing but what is kept."""

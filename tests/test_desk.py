@@ -220,7 +220,11 @@ class Orders(unittest.TestCase):
         for line in lines:
             self.refused(host_with(store, serial=LAST), line, BadSerial)
             Desk(host_with(store, serial=LAST - 1)).ask(line)
-        self.refused(host_with(store, serial=LAST), "add 't' #2", BadAmount)
+        # Of several errors the one that point 26 names first.
+        self.refused(host_with(store, serial=LAST), "add 't' #2", BadSerial)
+        self.refused(host_with(store, serial=LAST - 1), "add 't' #2", BadAmount)
+        for line, error in (("pick 'a' 2", Unasked), ("add 't' #1099511627777", Unasked), ("set '' #1", Unasked)):
+            self.refused(host_with(store, serial=LAST), line, error)
         # A serial beyond the host's own, which only a made-up note can bring.
         host = Host(0, (1,))
         give(host, 1, ("notes", (note("a", 0, 5, value=2),)))
